@@ -1,0 +1,1 @@
+"""Overtaken: invitations that overtake one another."""
