@@ -1,4 +1,9 @@
-"""What kind of value is passed: questions that never raise an error."""
+"""What kind of value is passed."""
+
+from overtaken.errors import InvalidGoal
+
+# Ascending, so that a choice of them is ascending, too.
+GOALS = ("back", "deaf", "elder", "lost", "wrong")
 
 
 def is_sequence(value):
@@ -14,3 +19,21 @@ def is_integer(value):
 def is_place(value, many):
     """Whether value is the index, counted from 0, of one of so many things."""
     return is_integer(value) and 0 <= value < many
+
+
+def read_place(value, word, many):
+    """The place, of so many, that a text tells behind this word in decimal digits; None for anything else."""
+    if not isinstance(value, str) or not value.startswith(word):
+        return None
+    digits = value.removeprefix(word)
+    # Python refuses to read very long numbers; none that is longer than the count can be a place.
+    if len(digits) > len(str(many)) or not digits.isdecimal():
+        return None
+    place = int(digits)
+    return place if place < many and str(place) == digits else None
+
+
+def check_goal(value):
+    """Raise an error if value is no goal."""
+    if value not in GOALS:
+        raise InvalidGoal()

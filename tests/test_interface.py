@@ -46,6 +46,20 @@ CLASSES = {
     },
 }
 
+FUNCTIONS = {
+    "weavings": {"play": ["plan", "weaving"]},
+    "deciding": {
+        "happens": ["plan", "goal"],
+        "weaving": ["plan", "goal"],
+        "goals": ["plan"],
+        "comes": ["plan", "at"],
+        "shown": ["plan"],
+    },
+    "papers": {"paper": ["plan", "goal"], "paper_holds": ["plan", "goal", "value"]},
+}
+
+ATTRIBUTES = {"letters", "shows", "whole", "own", "answers", "counted", "rules", "goals"}
+
 
 def defined(module):
     """The names of the functions and classes that stand in this file of the package."""
@@ -63,6 +77,20 @@ class Interface(unittest.TestCase):
                     self.assertIn(method, vars(found), name)
                     told = inspect.signature(getattr(found, method)).parameters.values()
                     self.assertEqual([str(one) for one in told], parameters, f"{name}.{method}")
+
+    def test_functions(self):
+        for module, functions in FUNCTIONS.items():
+            for name, parameters in functions.items():
+                self.assertIn(name, defined(module))
+                found = getattr(import_module(f"overtaken.{module}"), name)
+                self.assertEqual([str(one) for one in inspect.signature(found).parameters.values()], parameters, name)
+
+    def test_attributes_of_played(self):
+        self.assertIn("Played", defined("weavings"))
+        module = import_module("overtaken.weavings")
+        played = module.play(import_module("overtaken.plans").Plan(), ["ask"])
+        self.assertIsInstance(played, module.Played)
+        self.assertLessEqual(ATTRIBUTES, set(vars(played)))
 
     def test_read_is_a_class_method(self):
         for module, name in (("rules", "Rule"), ("plans", "Plan")):
