@@ -21,6 +21,13 @@ def is_place(value, many):
     return is_integer(value) and 0 <= value < many
 
 
+def is_name(value):
+    """Whether value is a string of 1 to 4 lower-case letters a to z."""
+    if not isinstance(value, str) or not 1 <= len(value) <= 4:
+        return False
+    return value.isascii() and value.isalpha() and value.islower()
+
+
 def read_place(value, word, many):
     """The place, of so many, that a text tells behind this word in decimal digits; None for anything else."""
     if not isinstance(value, str) or not value.startswith(word):

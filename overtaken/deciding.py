@@ -25,6 +25,12 @@ def way_to(standing, origins):
     return standing, steps[::-1]
 
 
+def events_to(standing, origins):
+    """The deeds and comings of a weaving that leads to this standing."""
+    start, steps = way_to(standing, origins)
+    return events_of(start[0], [(ahead[0], *told) for ahead, told in steps if told is not None])
+
+
 def answer_events(plan, over):
     """An answer is given and comes; in between the number is raised for another day if it has to be over."""
     between = "other day" if "day" in plan.raises else "other off"
@@ -37,17 +43,21 @@ def weaving(plan, goal):
     origins, met = explore(Standings(plan), goal)
     if met is None:
         return None
-    start, steps = way_to(met, origins)
-    events = events_of(start[0], [(ahead[0], *told) for ahead, told in steps if told is not None])
+    events = events_to(met, origins)
     if goal in ("deaf", "wrong"):
         events.extend(answer_events(plan, met[2]))
     return tuple(events)
 
 
+def goals_among(plan, wanted):
+    """Those of the wanted goals that happen, ascending."""
+    standings = Standings(plan)
+    return tuple([goal for goal in GOALS if goal in wanted and explore(standings, goal)[1] is not None])
+
+
 def goals(plan):
     """The goals that happen, ascending."""
-    standings = Standings(plan)
-    return tuple([goal for goal in GOALS if explore(standings, goal)[1] is not None])
+    return goals_among(plan, GOALS)
 
 
 def all_standings(plan):

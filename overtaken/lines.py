@@ -47,7 +47,7 @@ def line_of(held):
     stretches = {}
     for letter in sorted(set(list(held.values()))):
         number, _, begin, kind, begins = letter
-        marks = "".join([mark for mark in MARKS if held.get(mark) == letter])
+        marks = "".join([mark for mark in sorted(held) if held[mark] == letter])
         stretches.setdefault((number, begin), []).append((kind, begins, marks))
     return tuple([(begin, tuple(letters)) for (_, begin), letters in stretches.items()])
 

@@ -1,7 +1,7 @@
 """Standings for a goal: where they begin, the steps from them, and which meet the goal (promises [18] and [19])."""
 
 from overtaken.acting import counts, effects, is_whole_kind, relation
-from overtaken.lines import first_lines, further_letters, has_newest, letters_of, line_of
+from overtaken.lines import first_lines, further_letters, letters_of, line_of
 
 # To whom an answer was given: to the newest letter, to another one of its stretch, or to another one.
 NEWEST = "newest"

@@ -44,6 +44,25 @@ CLASSES = {
             "__str__": ["self"],
         },
     },
+    "post": {
+        "Post": {
+            "__init__": ["self", "plan", "days=1"],
+            "send": ["self", "kind", "day=None"],
+            "come": ["self", "guest", "place"],
+            "look": ["self", "guest", "day"],
+            "hand": ["self", "guest", "day", "other"],
+            "answer": ["self", "guest", "day"],
+            "heard": ["self", "number"],
+            "counted_for": ["self", "guest", "day"],
+            "weaving_for": ["self", "guest", "day"],
+            "goals_for": ["self", "guest", "day"],
+            "undo": ["self"],
+            "trial": ["self"],
+            "within": ["self", "work"],
+            "__len__": ["self"],
+        },
+    },
+    "desk": {"Desk": {"__init__": ["self"], "say": ["self", "command"]}},
 }
 
 FUNCTIONS = {
@@ -56,6 +75,8 @@ FUNCTIONS = {
         "shown": ["plan"],
     },
     "papers": {"paper": ["plan", "goal"], "paper_holds": ["plan", "goal", "value"]},
+    "needs": {name: ["plan", "wanted"] for name in ("least_raises", "needless_rules", "repairs")},
+    "alike": {"alike": ["p", "q"], "parting": ["p", "q"]},
 }
 
 ATTRIBUTES = {"letters", "shows", "whole", "own", "answers", "counted", "rules", "goals"}
@@ -91,6 +112,12 @@ class Interface(unittest.TestCase):
         played = module.play(import_module("overtaken.plans").Plan(), ["ask"])
         self.assertIsInstance(played, module.Played)
         self.assertLessEqual(ATTRIBUTES, set(vars(played)))
+
+    def test_sent_is_a_property(self):
+        self.assertIsInstance(vars(import_module("overtaken.post").Post)["sent"], property)
+
+    def test_attribute_of_desk(self):
+        self.assertIsInstance(vars(import_module("overtaken.desk").Desk())["post"], import_module("overtaken.post").Post)
 
     def test_read_is_a_class_method(self):
         for module, name in (("rules", "Rule"), ("plans", "Plan")):

@@ -1,7 +1,9 @@
 """Any values, as promise [1] tells, and helpers for the tests."""
 
 from overtaken import errors
+from overtaken.desk import Desk
 from overtaken.plans import Plan
+from overtaken.post import Post
 from overtaken.rules import Rule
 
 WORDS = [
@@ -24,7 +26,7 @@ def no_sequences():
         *WORDS,
         Rule("ask"), Rule("answer", ["level"], ["count"]),
         Plan(), Plan(["ask"], [Rule("ask", [], ["take"])]),
-        errors.LetterError("x"), errors.InvalidRule("kind"), errors.InvalidGoal(), errors.NoRule(0),
+        Post(Plan()), Desk(), errors.LetterError("x"), errors.InvalidRule("kind"), errors.InvalidGoal(), errors.NoRule(0),
     ]
 
 
